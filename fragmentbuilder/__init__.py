@@ -1,0 +1,1 @@
+"""A data house's events built from fragments: see fragmentbuilder.house."""
