@@ -1,7 +1,8 @@
-"""The calls on a house: what each refuses, does and answers."""
+"""The calls on a house: what each refuses, and what those do that change it."""
 
 from fragmentbuilder.builder import PowerGone
 from fragmentbuilder.lines import CREDIT, FRAGMENT, QUESTION, UNREADABLE
+from fragmentbuilder.reports import is_report, report
 
 NOT_AS_TOLD = -1
 NOT_BEHIND = -3
@@ -13,16 +14,19 @@ POWER_GONE = -20
 
 BEGIN = 0
 ACCEPT = 1
-WIPE = 8
 
-BEFORE_BEGIN = (0, 9)
+BEFORE_BEGIN = (0, 9, 16, 18)
 OF_A_WORD = (2, 3, 4, 5)
+OF_A_SOURCE = (8, 15)
 
 # By call: from where to where each of its numbers goes, where that is always the same.
 RANGES = {
     0: ((2, 6),),
     1: ((0, 99), (0, 99), (0, 999)),
     9: ((-1, 9),),
+    10: ((1, 60),),
+    16: ((0, 1000), (0, 15)),
+    17: ((0, 1000),),
 }
 MOST_VALUE = 9999
 
@@ -37,7 +41,7 @@ def is_as_told(house, call, given):
             return False
     if call == ACCEPT:
         return row_is_as_told(given[3], house.sources.how_many)
-    if call == WIPE:
+    if call in OF_A_SOURCE:
         return 1 <= given[0] <= house.sources.how_many
     return True
 
@@ -129,6 +133,30 @@ def fuse(house, given):
     return [0]
 
 
+def all_is_settled(house):
+    newest = house.acceptor.newest
+    return house.builder.settled() == newest and house.acceptor.credit == newest
+
+
+def take_step(house):
+    try:
+        if house.lines.is_empty():
+            house.builder.ask()
+        else:
+            arrive(house, [house.lines.first_sent()])
+    except PowerGone:
+        # Play goes on behind it: what was done stays, as behind any -20.
+        pass
+
+
+def play(house, given):
+    steps = 0
+    while steps < given[0] and not (house.lines.is_empty() and all_is_settled(house)):
+        take_step(house)
+        steps += 1
+    return [steps, 1 if all_is_settled(house) else 0]
+
+
 ACTIONS = {
     0: begin,
     1: accept,
@@ -140,6 +168,7 @@ ACTIONS = {
     7: give_up,
     8: wipe,
     9: fuse,
+    17: play,
 }
 
 
@@ -147,6 +176,8 @@ def answer_to(house, call, given):
     refused = early_refusal(house, call, given)
     if refused < 0:
         return [refused]
+    if is_report(call):
+        return report(house, call, given)
     action = ACTIONS[call]
     try:
         return action(house, given)

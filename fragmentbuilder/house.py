@@ -7,7 +7,10 @@ from fragmentbuilder.lines import Lines
 from fragmentbuilder.sources import Sources
 
 # By call: how many numbers stand behind its own, ahead of a row.
-NUMBERS = {0: 1, 1: 3, 2: 1, 3: 1, 4: 1, 5: 1, 6: 0, 7: 0, 8: 1, 9: 1}
+NUMBERS = {
+    0: 1, 1: 3, 2: 1, 3: 1, 4: 1, 5: 1, 6: 0, 7: 0, 8: 1, 9: 1,
+    10: 1, 11: 0, 12: 0, 13: 0, 14: 0, 15: 1, 16: 2, 17: 1, 18: 0, 19: 0,
+}
 CALLS_WITH_ROW = (1,)
 
 

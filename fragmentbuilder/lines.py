@@ -36,6 +36,12 @@ class Lines:
     def has_room(self, more):
         return len(self.words) + more <= MOST_WORDS
 
+    def is_empty(self):
+        return len(self.words) == 0
+
+    def first_sent(self):
+        return min(self.words)
+
     def send(self, word):
         self.sent += 1
         self.words[self.sent] = word

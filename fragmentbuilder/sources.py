@@ -29,6 +29,9 @@ class Sources:
     def has_word(self, source, number):
         return self.lost[source] < number <= len(self.rows)
 
+    def numbers_held(self, source):
+        return [number for number in range(1, len(self.rows) + 1) if self.has_word(source, number)]
+
     def take_question(self, source, counter):
         # One above the newest: the builder may ask ahead of the next crossing.
         number = number_for(counter, len(self.rows) + 1)

@@ -52,6 +52,46 @@ def fuse(k):
     return [9, k]
 
 
+def event(a):
+    return [10, a]
+
+
+def events():
+    return [11]
+
+
+def open_numbers():
+    return [12]
+
+
+def words():
+    return [13]
+
+
+def acceptor():
+    return [14]
+
+
+def source(z):
+    return [15, z]
+
+
+def number(n, k):
+    return [16, n, k]
+
+
+def play(k):
+    return [17, k]
+
+
+def journal():
+    return [18]
+
+
+def made():
+    return [19]
+
+
 def flat(calls):
     return [number for call in calls for number in call]
 
@@ -87,13 +127,13 @@ def words_under_way(calls, most=130):
     return found
 
 
-def row_of(number, n):
+def row_of(a, n):
     """Words of which no two crossings and no two sources have the same."""
-    return [100 * number + source for source in range(1, n + 1)]
+    return [100 * a + z for z in range(1, n + 1)]
 
 
 def accepts(n, first, behind):
-    return [at(number, row_of(number, n)) for number in range(first, behind)]
+    return [at(a, row_of(a, n)) for a in range(first, behind)]
 
 
 def arrives(first, behind):
@@ -125,12 +165,20 @@ def house_behind(calls):
     return house
 
 
+def reports(n):
+    """All calls that only tell; number is asked at both ends of the top's edge."""
+    told = [events(), open_numbers(), words(), acceptor(), journal(), made(), number(0, 8), number(0, 9)]
+    return told + [source(z) for z in range(1, n + 1)] + [event(a) for a in (1, 2, 7, 60)]
+
+
 def probes(n, most):
     """Rows of calls that show by their answers what a house holds."""
     everything = [arrive(w) for w in range(1, most + 1)]
     later = accept(99, 99, 999, [7] * n)
     rows = [
+        reports(n),
         everything,
+        [play(1000)] + reports(n),
         everything + [ask(), ask(), ask(), give_up(), later],
         everything[::-1] + [give_up(), later],
         [ask()] + everything,
@@ -161,6 +209,13 @@ class CallsCase(unittest.TestCase):
 
     def check_last(self, calls, answer):
         self.assertEqual(last(calls), answer)
+
+    def check_all(self, calls, reports_and_answers):
+        """Behind the calls these reports, in a row, have these answers, and have them once more."""
+        asked = [pair[0] for pair in reports_and_answers]
+        expected = [pair[1] for pair in reports_and_answers]
+        given = answers_of(calls + asked + asked)[-2 * len(asked):]
+        self.assertEqual(given, expected + expected)
 
     def check_refused(self, calls, refused, answer, n, most=12):
         """The call is refused so, and the house behind it is as it was ahead of it."""

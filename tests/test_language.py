@@ -59,6 +59,38 @@ def names_in(tree):
             yield node.name
 
 
+def is_plain(node, functions):
+    """A value that may stand at a file's top: plain ones, and lists, tuples and dicts of these and of functions."""
+    if isinstance(node, ast.UnaryOp):
+        return isinstance(node.op, ast.USub) and isinstance(node.operand, ast.Constant)
+    if isinstance(node, ast.Name):
+        return node.id in functions
+    if isinstance(node, (ast.List, ast.Tuple)):
+        return all(is_plain(one, functions) for one in node.elts)
+    if isinstance(node, ast.Dict):
+        return all(is_plain(one, functions) for one in node.keys + node.values)
+    return isinstance(node, ast.Constant)
+
+
+def imports_of(tree):
+    return [alias.name for node in tree.body if isinstance(node, ast.ImportFrom) for alias in node.names]
+
+
+def defined_in(tree, kind):
+    return [node.name for node in tree.body if isinstance(node, kind)]
+
+
+def bound_within(tree):
+    """Parameters and locals of all functions."""
+    for top in tree.body:
+        if isinstance(top, (ast.FunctionDef, ast.ClassDef)):
+            for node in ast.walk(top):
+                if isinstance(node, ast.arg):
+                    yield node.arg
+                elif isinstance(node, ast.Name) and isinstance(node.ctx, ast.Store):
+                    yield node.id
+
+
 class Language(unittest.TestCase):
     def trees(self):
         return [(name, ast.parse(text_of(name))) for name in package_files()]
@@ -149,3 +181,94 @@ class Language(unittest.TestCase):
             for node in ast.walk(tree):
                 if isinstance(node, ast.Attribute) and node.attr in own:
                     self.assertIn(node.attr, METHODS, name)
+
+    def test_the_top_of_a_file(self):
+        for name, tree in self.trees():
+            functions = []
+            self.assertIsInstance(ast.get_docstring(tree), str, name)
+            for node in tree.body[1:]:
+                if isinstance(node, ast.FunctionDef):
+                    functions.append(node.name)
+                elif isinstance(node, ast.Assign):
+                    self.assertIsInstance(node.targets[0], ast.Name, name)
+                    self.assertTrue(is_plain(node.value, functions), (name, node.lineno))
+                    if isinstance(node.value, (ast.List, ast.Dict)):
+                        nested = [one for one in ast.walk(node.value) if isinstance(one, (ast.List, ast.Dict))]
+                        self.assertEqual(len(nested), 1, (name, node.lineno))
+                else:
+                    self.assertIsInstance(node, (ast.ImportFrom, ast.ClassDef), (name, node.lineno))
+
+    def test_each_name_is_bound_once_at_the_top(self):
+        for name, tree in self.trees():
+            bound = imports_of(tree) + defined_in(tree, (ast.FunctionDef, ast.ClassDef))
+            bound += [node.targets[0].id for node in tree.body if isinstance(node, ast.Assign)]
+            self.assertEqual(len(bound), len(set(bound)), name)
+
+    def test_parameters_and_locals(self):
+        for name, tree in self.trees():
+            taken = imports_of(tree) + defined_in(tree, ast.ClassDef) + PYTHONS_OWN
+            taken += [node.targets[0].id for node in tree.body if isinstance(node, ast.Assign)]
+            self.assertEqual([one for one in bound_within(tree) if one in taken], [], name)
+
+    def test_lists_and_dicts_of_the_top_are_only_read(self):
+        for name, tree in self.trees():
+            kept = [node.targets[0].id for node in tree.body
+                    if isinstance(node, ast.Assign) and isinstance(node.value, (ast.List, ast.Dict))]
+            allowed = set()
+            for node in ast.walk(tree):
+                if isinstance(node, ast.Subscript) and isinstance(node.ctx, ast.Load):
+                    allowed.add(node.value)
+                elif isinstance(node, ast.Compare):
+                    allowed.update(node.comparators)
+                elif isinstance(node, ast.Attribute) and node.attr == "get":
+                    allowed.add(node.value)
+            for node in ast.walk(tree):
+                if isinstance(node, ast.Name) and isinstance(node.ctx, ast.Load) and node.id in kept:
+                    self.assertIn(node, allowed, (name, node.lineno))
+
+    def test_functions_and_classes(self):
+        for name, tree in self.trees():
+            for node in ast.walk(tree):
+                if isinstance(node, ast.FunctionDef):
+                    given = node.args
+                    other = [given.vararg, given.kwarg] + given.kwonlyargs + given.posonlyargs
+                    self.assertEqual(other, [None, None], (name, node.lineno))
+                    self.assertIsNone(node.returns)
+                    self.assertEqual([one for one in given.args if one.annotation], [])
+                if isinstance(node, ast.ClassDef):
+                    self.assertIn(node, tree.body)
+                    self.assertLessEqual(len(node.bases), 1)
+                    for one in node.body:
+                        self.assertIsInstance(one, (ast.FunctionDef, ast.Pass), (name, one.lineno))
+
+    def test_walked_at_once(self):
+        for name, tree in self.trees():
+            walked = set()
+            for node in ast.walk(tree):
+                if isinstance(node, (ast.For, ast.comprehension)):
+                    walked.add(node.iter)
+                elif isinstance(node, ast.Call) and isinstance(node.func, ast.Name) and node.args:
+                    if node.func.id in ("list", "tuple", "dict", "sorted", "sum", "any", "all", "enumerate", "zip"):
+                        walked.add(node.args[0])
+            for node in ast.walk(tree):
+                if isinstance(node, ast.Call):
+                    called = getattr(node.func, "id", getattr(node.func, "attr", ""))
+                    if called in ("zip", "enumerate", "reversed", "range", "items", "keys", "values"):
+                        self.assertIn(node, walked, (name, node.lineno))
+
+    def test_errors(self):
+        for name, tree in self.trees():
+            for node in ast.walk(tree):
+                if isinstance(node, ast.ExceptHandler):
+                    self.assertEqual(node.type.id, "PowerGone", (name, node.lineno))
+                if isinstance(node, ast.Try):
+                    self.assertEqual(node.finalbody, [], (name, node.lineno))
+                if isinstance(node, ast.Raise):
+                    self.assertIsInstance(node.exc, ast.Call, (name, node.lineno))
+
+    def test_texts_and_powers(self):
+        for name, tree in self.trees():
+            for node in ast.walk(tree):
+                self.assertNotIsInstance(node, ast.Pow, name)
+                if isinstance(node, ast.Constant) and isinstance(node.value, str):
+                    self.assertNotIn("%", node.value, name)
