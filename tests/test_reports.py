@@ -2,7 +2,7 @@
 
 from tests.helper import (
     CallsCase, FAR, acceptor, accepts, answers_of, arrive, arrives, ask, at, begin, double, event, events, fuse,
-    garble, give_up, journal, lose, made, number, open_numbers, play, reports, settled_rounds, source, wipe, words,
+    garble, give_up, lose, made, number, open_numbers, play, reports, settled_rounds, source, wipe, words,
 )
 
 
